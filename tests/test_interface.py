@@ -1,21 +1,38 @@
 """The names, arguments and places of the interface."""
 
+import inspect
 import unittest
 
+import ringloosed.audit
 import ringloosed.errors
+import ringloosed.hall
 import ringloosed.home
+import ringloosed.house
 import ringloosed.lock
 import ringloosed.marks
+import ringloosed.messages
+import ringloosed.network
 import ringloosed.program
+import ringloosed.scenario
+import ringloosed.settle
 import ringloosed.shelf
 import ringloosed.trip
 import ringloosed.values
+import ringloosed.waits
+from ringloosed.audit import audit, replay
+from ringloosed.hall import Hall
 from ringloosed.home import Home
+from ringloosed.house import House
 from ringloosed.lock import Lock
 from ringloosed.marks import Marks
+from ringloosed.messages import is_body, is_message
+from ringloosed.network import Network
 from ringloosed.program import keys_of, run_program
+from ringloosed.scenario import perform, run
+from ringloosed.settle import settle
 from ringloosed.shelf import Shelf
 from ringloosed.trip import Trip
+from ringloosed.waits import ring_of, rings, stands_before, waits, waits_for
 
 PLACES = (
     (ringloosed.errors, ("LoosedError", "BadValue", "Down", "Unknown")),
@@ -32,6 +49,14 @@ PLACES = (
     (ringloosed.marks, ("Marks",)),
     (ringloosed.trip, ("Trip",)),
     (ringloosed.home, ("Home",)),
+    (ringloosed.house, ("House",)),
+    (ringloosed.messages, ("is_body", "is_message")),
+    (ringloosed.network, ("Network",)),
+    (ringloosed.hall, ("Hall",)),
+    (ringloosed.scenario, ("perform", "run")),
+    (ringloosed.settle, ("settle",)),
+    (ringloosed.waits, ("stands_before", "waits_for", "waits", "ring_of", "rings")),
+    (ringloosed.audit, ("replay", "audit")),
 )
 
 METHODS = (
@@ -43,11 +68,21 @@ METHODS = (
         ("__init__", "row", "next_key", "granted", "behind", "told", "take", "freed", "finished", "push"),
     ),
     (Home, ("__init__", "begin", "trip", "transactions", "rows", "push", "handle")),
+    (House, ("__init__", "kept", "begin", "push", "handle")),
+    (Network, ("__init__", "send", "message", "drop", "numbers", "__len__", "__iter__")),
+    (
+        Hall,
+        (
+            "__init__", "begin", "push", "deliver", "drop", "stop", "start",
+            "is_up", "house", "kept", "book", "lock", "trip", "transactions",
+        ),
+    ),
 )
 
 PROPERTIES = (
     (Marks, ("own",)),
     (Trip, ("state", "mark", "outcome")),
+    (House, ("shelf", "home")),
 )
 
 
@@ -123,6 +158,64 @@ class InterfaceTest(unittest.TestCase):
         self.assertEqual(home.trip(transaction=(1, 3)).program, program)
         self.assertEqual(home.handle(body=("freed", (1, 3), 1, (0, "a"))), ([], None))
         self.assertEqual((home.house, Home(house=3).house), (3, 3))
+
+    def test_a_house_takes_its_arguments_by_name(self):
+        key, program = (3, "a"), (("read", (3, "a")),)
+        kept = (((key, 4, 2, None),), ((key, (1, 3), 1),), (((1, 3), program, 2, None, False),))
+        house = House(number=3, kept=kept)
+        self.assertEqual((house.number, house.kept()), (3, kept))
+        self.assertEqual(house.begin(program=program), (2, 3))
+        self.assertEqual(house.handle(body=("ask", (1, 3), 1, key)), ([], None))
+        self.assertEqual(House(3).kept(), ((), (), ()))
+
+    def test_what_is_kept_of_a_house_is_passed_by_its_name_only(self):
+        kept = inspect.signature(House).parameters["kept"]
+        self.assertIs(kept.kind, inspect.Parameter.KEYWORD_ONLY)
+        self.assertEqual(kept.default, ((), (), ()))
+
+    def test_the_functions_of_messages_take_a_thing(self):
+        self.assertIs(is_body(thing=None), False)
+        self.assertIs(is_message(thing=None), False)
+
+    def test_a_network_takes_its_arguments_by_name(self):
+        network, body = Network(), ("ask", (1, 0), 1, (1, "a"))
+        self.assertEqual(network.send(sender=0, receiver=1, body=body), 1)
+        self.assertEqual(network.message(number=1), (0, 1, body))
+        self.assertIsNone(network.drop(number=1))
+        self.assertEqual((network.sent, network.numbers(), len(network), list(network)), (1, [], 0, []))
+
+    def test_a_hall_takes_its_arguments_by_name(self):
+        key, program = (1, "a"), (("read", (1, "a")),)
+        hall = Hall(houses=2)
+        self.assertEqual(hall.begin(number=0, program=program), (1, 0))
+        self.assertEqual(hall.push(number=0), [1])
+        self.assertEqual(hall.deliver(number=1), [2])
+        self.assertIsNone(hall.drop(number=2))
+        self.assertIsNone(hall.stop(number=0))
+        self.assertIs(hall.is_up(number=0), False)
+        self.assertIsNone(hall.start(number=0))
+        self.assertEqual(hall.house(number=1).number, 1)
+        self.assertEqual(hall.kept(number=1), (((key, 0, 1, ((1, 0), 1)),), (), ()))
+        self.assertEqual(hall.lock(key=key), (0, 1, ((1, 0), 1)))
+        self.assertEqual(hall.trip(transaction=(1, 0)), (program, 1, "going"))
+        self.assertEqual((hall.transactions(), hall.book()), ([(1, 0)], [("began", (1, 0), program)]))
+        self.assertEqual((hall.houses, type(hall.network)), (2, Network))
+
+    def test_the_functions_over_a_hall_take_their_arguments_by_name(self):
+        key, program = (0, "a"), (("read", (0, "a")),)
+        hall = Hall(1)
+        self.assertEqual(perform(hall=hall, deed=("begin", 0, program)), ("done", (1, 0)))
+        self.assertEqual(run(hall=hall, deeds=[("push", 0)]), [("done", [1])])
+        self.assertEqual(stands_before(hall=hall, transaction=(1, 0)), key)
+        self.assertIsNone(waits_for(hall=hall, transaction=(1, 0)))
+        self.assertEqual(waits(hall=hall), {})
+        self.assertEqual(settle(hall=hall), 1)
+
+    def test_the_functions_over_graphs_and_events_take_their_arguments_by_name(self):
+        graph = {(1, 0): (2, 0), (2, 0): (1, 0)}
+        self.assertEqual(ring_of(graph=graph, transaction=(1, 0)), ((1, 0), (2, 0)))
+        self.assertEqual(rings(graph=graph), [((2, 0), (1, 0))])
+        self.assertEqual((replay(events=[]), audit(events=[])), (({}, {}), []))
 
 
 if __name__ == "__main__":
